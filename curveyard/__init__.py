@@ -1,0 +1,1 @@
+"""Curveyard: floors numbered along folded curves, and things kept by their numbers."""
