@@ -5,33 +5,12 @@ import unittest
 from curveyard.curves import Curve, Part, digit_at, first_state, part_at
 from curveyard.turns import turned
 from tests.samples import (
-    all_corners, all_curves, all_states, check_corner, check_state, cube, hilbert, square, told,
+    all_corners, all_curves, all_states, check_corner, check_state, cube, hilbert, lain, square, told,
 )
 
 
-def lain(curve, level):
-    """The places of a floor in the curve's order, straight from point 8: made of
-    smaller floors that are turned and walked back whole, not of states."""
-    if level == 0:
-        return [(0,) * curve.dims]
-    half = 2 ** (level - 1)
-    places = []
-    for part in curve.parts:
-        inner = [moved(part, place, half) for place in lain(curve, level - 1)]
-        places.extend(reversed(inner) if part.back else inner)
-    return places
-
-
-def moved(part, place, half):
-    found = []
-    for bit, (axis, flip) in zip(part.corner, part.turn):
-        inner = half - 1 - place[axis] if flip else place[axis]
-        found.append(bit * half + inner)
-    return tuple(found)
-
-
 def walked_by_states(curve, state, level):
-    """The same list, by the states of point 9."""
+    """The places of a floor in the curve's order, by the states of point 9."""
     if level == 0:
         return [(0,) * curve.dims]
     half = 2 ** (level - 1)
