@@ -1,6 +1,6 @@
 """Boxes of places."""
 
-from curveyard.errors import BadBox
+from curveyard.errors import BadBox, OffFloor
 from curveyard.numbering import full, has_place
 
 
@@ -19,6 +19,12 @@ def on_floor(box, dims, level):
     """Whether all places of a box are on a floor."""
     low, high = box
     return has_place(dims, level, low) and has_place(dims, level, high)
+
+
+def ask_box(box, dims, level):
+    """Refuses a box that is not on a floor with OffFloor."""
+    if not on_floor(box, dims, level):
+        raise OffFloor(f"no box {box} at level {level}")
 
 
 def holds(box, place):

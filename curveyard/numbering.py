@@ -18,6 +18,12 @@ def has_place(dims, level, place):
     return len(place) == dims and all([0 <= along < side for along in place])
 
 
+def ask_place(dims, level, place):
+    """Refuses a place that a floor does not have with OffFloor."""
+    if not has_place(dims, level, place):
+        raise OffFloor(f"no place {place} at level {level}")
+
+
 def place_at(curve, level, number):
     """The place with a number; refused with OffFloor."""
     if not 0 <= number < full(curve.dims, level):
@@ -47,8 +53,7 @@ def deeper(place, corner):
 
 def number_at(curve, level, place):
     """The number of a place; refused with OffFloor."""
-    if not has_place(curve.dims, level, place):
-        raise OffFloor(f"no place {place} at level {level}")
+    ask_place(curve.dims, level, place)
     state = first_state(curve.dims)
     number = 0
     half = full(1, level) // 2

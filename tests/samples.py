@@ -1,4 +1,5 @@
-"""What several tests need: all corners and turns, some curves, how they lie, and checks of kinds."""
+"""What several tests need: all corners and turns, some curves and how they lie, boxes, scattered numbers, and
+checks of kinds and of pages."""
 
 import itertools
 
@@ -143,6 +144,95 @@ def told(curve):
     """All that a curve holds, as plain values."""
     parts = [(part.corner, part.turn, part.back) for part in curve.parts]
     return (curve.name, curve.dims, curve.joined, parts)
+
+
+def box_along(lines):
+    """The box with these pairs of least and greatest coordinate along its axes."""
+    low, high = zip(*lines)
+    return (low, high)
+
+
+def places_of(box):
+    return set(itertools.product(*[range(least, most + 1) for least, most in zip(*box)]))
+
+
+def boxes_on(dims, level):
+    """All boxes of a floor."""
+    lines = list(itertools.combinations_with_replacement(range(2 ** level), 2))
+    return [box_along(found) for found in itertools.product(lines, repeat=dims)]
+
+
+def floor_of(dims, level):
+    """The box of all places of a floor."""
+    return ((0,) * dims, (2 ** level - 1,) * dims)
+
+
+def boxes_beyond(dims, level):
+    """Boxes that reach beyond a floor or lie beyond it, on each axis and side, and boxes of another count of axes."""
+    low, high = floor_of(dims, level)
+    found = []
+    for axis in range(dims):
+        below = low[:axis] + (-1,) + low[axis + 1:]
+        above = high[:axis] + (2 ** level,) + high[axis + 1:]
+        found += [(below, low), (below, high), (below, below), (low, above), (high, above), (above, above)]
+    for count in (1, dims - 1, dims + 1):
+        found += [((0,) * count, (0,) * count), ((0,) * count, (2 ** level - 1,) * count)]
+    return found
+
+
+def scattered(count, below, salt=1):
+    """So many numbers from 0 to less than below, in no order that is easily seen, the same ones for the same salt."""
+    found = []
+    # Spread out, as small salts one after another would begin almost alike.
+    state = salt * 11400714819323198485 % 2 ** 64
+    for step in range(count):
+        state = (state * 6364136223846793005 + 1442695040888963407) % 2 ** 64
+        found.append((state >> 33) % below)
+    return found
+
+
+def shuffled(values, salt=1):
+    """The same values in another order."""
+    ranks = scattered(len(values), 2 ** 30, salt)
+    return [value for rank, value in sorted(zip(ranks, values))]
+
+
+def entry_order(entry):
+    return (entry[0], entry[2])
+
+
+def check_pages(case, shape, size):
+    """All bounds of point 34 that a shape shows; answers the entries of its leaves in order."""
+    entries = check_page(case, shape, size, True)[1]
+    case.assertEqual(entries, sorted(entries, key=entry_order))
+    case.assertEqual(len(set(map(entry_order, entries))), len(entries))
+    return entries
+
+
+def check_page(case, shape, size, root):
+    """The depth of a page and its entries."""
+    case.assertIs(type(shape), tuple)
+    kind, things = shape
+    case.assertIs(type(things), list)
+    case.assertLessEqual(len(things), size)
+    if not root:
+        case.assertGreaterEqual(len(things), size // 2)
+    if kind == "leaf":
+        return (1, list(things))
+    case.assertEqual(kind, "branch")
+    if root:
+        case.assertGreaterEqual(len(things), 2)
+    depths, entries = [], []
+    for told_of in things:
+        case.assertIs(type(told_of), tuple)
+        least, most, inner = told_of
+        depth, found = check_page(case, inner, size, False)
+        case.assertEqual(least, min(found, key=entry_order))
+        case.assertEqual(most, max(entry[1] for entry in found))
+        depths.append(depth)
+        entries += found
+    case.assertEqual(len(set(depths)), 1)
+    return (depths[0] + 1, entries)
 
 
 def check_corner(case, corner, dims):

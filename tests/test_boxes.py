@@ -5,22 +5,14 @@ import unittest
 
 from curveyard.boxes import box_of, common, gap, grown, holds, meets, on_floor, volume, within
 from curveyard.errors import BadBox
+from tests.samples import box_along, places_of
 
 FAR = 10 ** 30
 LINES = tuple(itertools.combinations_with_replacement(range(-1, 3), 2))
 
 
-def made(lines):
-    """The box with these pairs of least and greatest coordinate along its axes."""
-    return (tuple(least for least, most in lines), tuple(most for least, most in lines))
-
-
-def places_of(box):
-    return set(itertools.product(*[range(least, most + 1) for least, most in zip(*box)]))
-
-
 def boxes_of(dims, step=1):
-    found = [made(lines) for lines in itertools.product(LINES, repeat=dims)]
+    found = [box_along(lines) for lines in itertools.product(LINES, repeat=dims)]
     return found[::step]
 
 
