@@ -7,7 +7,7 @@ from curveyard.numbering import full, has_place
 def box_of(low, high):
     """The box of the places from low to high; refused with BadBox."""
     if not not_beyond(low, high):
-        raise BadBox(f"{low} is beyond {high}")
+        raise BadBox("the low place is beyond the high one")
     return (low, high)
 
 
@@ -24,7 +24,7 @@ def on_floor(box, dims, level):
 def ask_box(box, dims, level):
     """Refuses a box that is not on a floor with OffFloor."""
     if not on_floor(box, dims, level):
-        raise OffFloor(f"no box {box} at level {level}")
+        raise OffFloor("the box is not on the floor")
 
 
 def holds(box, place):

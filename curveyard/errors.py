@@ -1,4 +1,8 @@
-"""The refusals, each a class of its own."""
+"""The refusals, each a class of its own.
+
+Their words tell none of the numbers that are refused: these may be of any
+length, and Python does not write numbers of some thousand figures.
+"""
 
 
 class YardError(ValueError):

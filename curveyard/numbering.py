@@ -21,13 +21,13 @@ def has_place(dims, level, place):
 def ask_place(dims, level, place):
     """Refuses a place that a floor does not have with OffFloor."""
     if not has_place(dims, level, place):
-        raise OffFloor(f"no place {place} at level {level}")
+        raise OffFloor("the place is not on the floor")
 
 
 def place_at(curve, level, number):
     """The place with a number; refused with OffFloor."""
     if not 0 <= number < full(curve.dims, level):
-        raise OffFloor(f"no number {number} at level {level}")
+        raise OffFloor("the floor has no such number")
     state = first_state(curve.dims)
     place = (0,) * curve.dims
     for digit in digits_of(number, len(curve.parts), level):

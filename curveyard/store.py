@@ -16,13 +16,13 @@ class Store:
     def put(self, entry):
         """Puts an entry in; refused with Twice."""
         if entry_like(self.root, entry) is not None:
-            raise Twice(f"an entry with the first and the name of {entry} is there")
+            raise Twice("an entry with that first and that name is there")
         self.root = root_of(put_beneath(self.root, entry, self.size))
 
     def take(self, entry):
         """Takes an entry out; refused with NoEntry."""
         if entry_like(self.root, entry) != entry:
-            raise NoEntry(f"no entry {entry}")
+            raise NoEntry("that very entry is not there")
         self.root = root_of(taken_beneath(self.root, entry, self.size))
 
     def listed(self):

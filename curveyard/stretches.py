@@ -12,7 +12,7 @@ def stretches(curve, level, box):
     """The stretches of a box; refused with OffFloor, TooWide."""
     ask_box(box, curve.dims, level)
     if volume(box) > MOST_PLACES:
-        raise TooWide(f"more than {MOST_PLACES} places in {box}")
+        raise TooWide(f"the box holds more than {MOST_PLACES} places")
     return stretches_of(curve, level, box)
 
 

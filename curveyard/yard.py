@@ -73,6 +73,7 @@ class Yard:
         return sorted(pairs)
 
     def ask_floor(self, box):
+        """Refuses a box that is not on the floor with OffFloor."""
         ask_box(box, self.curve.dims, self.level)
 
     def ask_name(self, name):
@@ -85,6 +86,7 @@ class Yard:
         self.boxes[name] = box
 
     def spans(self, box):
+        """The stretches of a box on the floor."""
         # No deed is told to be refused for a wide box, so none is,
         # even where a floor is greater than those that are asked for.
         return stretches_of(self.curve, self.level, box)

@@ -110,6 +110,12 @@ UNMET = (
     ), [None, 3, 3, None, 3, None, 3]),
 )
 
+# The two parts and the level with which each of these is refused where it says joined.
+REFUSED_WITH = {
+    "square": (1, 2, 1), "cube": (1, 2, 1), "rows": (1, 2, 1), "ring": (0, 1, 2), "late": (2, 3, 3),
+    "later": (1, 2, 4), "first": (0, 1, 4), "many": (6, 7, 2), "levels": (1, 2, 4), "third": (1, 2, 3),
+}
+
 
 def lain_at(curve, level, number):
     """The place with a number, straight from point 8: a smaller floor is turned

@@ -64,6 +64,13 @@ class Making(Kinds):
         self.bad_box((2, 2, 2), (1, 1, 1))
         self.bad_box((FAR, 0), (-FAR, -1))
 
+    def test_coordinates_of_thousands_of_figures(self):
+        # Python itself does not write numbers of this length, so no refusal may try to.
+        far = 10 ** 5000
+        self.bad_box((far, 0), (0, 0))
+        self.bad_box((0, 0, 0), (1, 1, -far))
+        self.assertTrue(box_of((-far, 0), (far, far)) == ((-far, 0), (far, far)))
+
     def bad_box(self, low, high):
         with self.assertRaises(BadBox, msg=(low, high)) as caught:
             box_of(low, high)

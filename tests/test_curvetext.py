@@ -6,21 +6,15 @@ from curveyard.curves import Curve
 from curveyard.curvetext import curve_from, curve_of, curve_rows, curve_text, fitted
 from curveyard.errors import BadRow, CornerTwice, Unmet
 from curveyard.fitting import meeting_of
-from tests.samples import UNMET, all_corners, all_turns, cube, folded, hilbert, meeting_curves, square, told, winding
+from tests.rows import (
+    BAD_NAMES, CUBE, HILBERT, SQUARE, WINDING, RefusedRows, blanks_put_wrong, with_row, words_missing,
+)
+from tests.samples import (
+    REFUSED_WITH, UNMET, all_corners, all_turns, cube, folded, hilbert, meeting_curves, square, told, winding,
+)
 
-HILBERT = ["curve hilbert joined 2", "part 00 +y+x", "part 01 +x+y", "part 11 +x+y", "part 10 -y-x"]
-SQUARE = ["curve square loose 2", "part 10 -y+x back", "part 00 -x+y", "part 11 +y-x back", "part 01 +x+y back"]
-CUBE = [
-    "curve cube loose 3", "part 010 +y-z+x", "part 110 -z+x-y back", "part 000 +x+y+z back", "part 101 -x+z+y",
-    "part 111 +z-y-x", "part 011 -y-x-z back", "part 001 +y+z-x back", "part 100 -z-x+y",
-]
-WINDING = [
-    "curve winding joined 3", "part 000 -z+y+x back", "part 100 +y+z+x", "part 110 +y-z+x back", "part 010 -y-x+z",
-    "part 011 -x-y+z", "part 111 +y-z-x", "part 101 +y-z-x", "part 001 -z+y-x",
-]
 TOLD = ((hilbert(), HILBERT), (square(), SQUARE), (cube(), CUBE), (winding(), WINDING))
 
-BAD_NAMES = ["", "abcdefghijklm", "Hilbert", "hilberT", "curve1", "a-b", "a_b", "a,b", "\u00e4", "a\n", "a\t", "1", "0"]
 BAD_DIMS = ["", "0", "1", "4", "5", "6", "9", "02", "03", "+2", "2.", "2d", "22", "23", "two", "x", "\u0662",
             "2\n", "-2"]
 BAD_PROMISES = ["", "join", "joine", "joinedd", "Joined", "JOINED", "looser", "Loose", "joined,", "true", "back"]
@@ -37,27 +31,6 @@ BAD_TURNS = {
     3: ["", "+x", "+x+y", "-y-x", "xyz", "+x+y+x", "+x+z+z", "+x+y+w", "+x+y+z+x", "+X+Y+Z", "x+y+z+", "+x+y+z\n",
         "back", "000"],
 }
-
-
-def with_row(rows, number, row):
-    """The rows with another one under that number."""
-    return rows[:number - 1] + [row] + rows[number:]
-
-
-def blanks_put_wrong(row):
-    """The row with a blank more, or one instead of which something else stands, at every place."""
-    words = row.split(" ")
-    texts = [" " + row, row + " ", "  " + row, row + "  ", "\t" + row, row + "\t", " " + row + " ", row + "\r"]
-    for place in range(1, len(words)):
-        ahead, behind = " ".join(words[:place]), " ".join(words[place:])
-        for between in ("  ", "   ", "\t", " \t", "\u00a0", ",", "", "_"):
-            texts.append(ahead + between + behind)
-    return texts
-
-
-def words_missing(row):
-    words = row.split(" ")
-    return [" ".join(words[:place] + words[place + 1:]) for place in range(len(words))]
 
 
 def bad_heads(row):
@@ -86,7 +59,7 @@ def bad_parts(row, dims):
     return texts
 
 
-class Refusing(unittest.TestCase):
+class Refusing(RefusedRows):
     def refused(self, kind, row, rows):
         """Refused so by curve_from, and by curve_of of the same rows as a text."""
         self.refused_rows(kind, row, rows)
@@ -101,13 +74,6 @@ class Refusing(unittest.TestCase):
 
     def refused_text(self, kind, row, text):
         self.refused_by(kind, row, curve_of, text)
-
-    def refused_by(self, kind, row, read, told_by):
-        with self.assertRaises(kind, msg=repr(told_by)) as caught:
-            read(told_by)
-        self.assertIs(type(caught.exception), kind, told_by)
-        self.assertEqual(caught.exception.row, row, told_by)
-        self.assertIs(type(caught.exception.row), int)
 
 
 class Writing(unittest.TestCase):
@@ -326,15 +292,7 @@ class TwoFaults(Refusing):
         self.refused_text(BadRow, 6, "\n".join(HILBERT + ["part", "part"]))
 
 
-class Promise(unittest.TestCase):
-    def unmet(self, ask, value, wanted):
-        with self.assertRaises(Unmet) as caught:
-            ask(value)
-        error = caught.exception
-        self.assertIs(type(error), Unmet)
-        self.assertEqual((error.first, error.second, error.level), wanted)
-        self.assertEqual({type(error.first), type(error.second), type(error.level)}, {int})
-
+class Promise(RefusedRows):
     def test_fitted_answers_the_very_curve(self):
         for curve in meeting_curves():
             before = told(curve)
@@ -352,15 +310,11 @@ class Promise(unittest.TestCase):
             self.assertEqual(told(loose), before)
 
     def test_a_joined_curve_that_does_not_meet(self):
-        wanted = {
-            "square": (1, 2, 1), "cube": (1, 2, 1), "rows": (1, 2, 1), "ring": (0, 1, 2), "late": (2, 3, 3),
-            "later": (1, 2, 4), "first": (0, 1, 4), "many": (6, 7, 2), "levels": (1, 2, 4), "third": (1, 2, 3),
-        }
         for curve, levels in UNMET:
             joined = Curve(curve.name, curve.dims, True, curve.parts)
             before = told(joined)
-            self.unmet(fitted, joined, wanted[curve.name])
-            self.unmet(curve_of, curve_text(joined), wanted[curve.name])
+            self.unmet(fitted, joined, REFUSED_WITH[curve.name])
+            self.unmet(curve_of, curve_text(joined), REFUSED_WITH[curve.name])
             self.assertEqual(told(joined), before)
 
     def test_as_meeting_of_tells(self):

@@ -33,7 +33,7 @@ def floor_places(dims, level):
 class Refusing(unittest.TestCase):
     def off_floor(self, ask, *values):
         before = told(values[0])
-        with self.assertRaises(OffFloor, msg=repr(values[1:])) as caught:
+        with self.assertRaises(OffFloor, msg=values[1:]) as caught:
             ask(*values)
         self.assertIs(type(caught.exception), OffFloor)
         self.assertEqual(told(values[0]), before)
@@ -154,6 +154,15 @@ class OffTheFloor(Refusing):
                             place[axis] = along
                             self.off_floor(number_at, curve, level, tuple(place))
                     number_at(curve, level, (inside,) * curve.dims)
+
+    def test_numbers_of_thousands_of_figures(self):
+        # Python itself does not write numbers of this length, so no refusal may try to.
+        far = 10 ** 5000
+        for curve in CURVES:
+            for along in (far, -far):
+                self.off_floor(place_at, curve, 3, along)
+                self.off_floor(neighbours, curve, 3, along)
+                self.off_floor(number_at, curve, 3, (0,) * (curve.dims - 1) + (along,))
 
     def test_all_coordinates_beyond(self):
         for curve in BOTH:

@@ -225,6 +225,14 @@ class Refused(Checked):
                 store.take(entry)
                 self.refused(NoEntry, store.take, entry, store)
 
+    def test_numbers_of_thousands_of_figures(self):
+        # Python itself does not write numbers of this length, so no refusal may try to.
+        far = 10 ** 5000
+        store = stored(4, [(far, far, "a")])
+        self.refused(Twice, store.put, (far, far + 1, "a"), store)
+        self.refused(NoEntry, store.take, (far, far + 1, "a"), store)
+        store.take((far, far, "a"))
+
     def test_behind_a_refusal_all_goes_on(self):
         store = stored(4, [(1, 5, "a")])
         self.refused(Twice, store.put, (1, 7, "a"), store)

@@ -8,79 +8,9 @@ from curveyard.store import Store
 from curveyard.stretches import stretches
 from curveyard.yard import Yard
 from tests.samples import (
-    box_along, boxes_beyond, boxes_on, check_pages, cube, entry_order, floor_of, folded, hilbert, places_of, scattered,
-    square, there_and_back, told, winding,
+    box_along, boxes_beyond, boxes_on, check_pages, entry_order, floor_of, hilbert, places_of, scattered, told,
 )
-
-ROWS = folded("rows", "loose", "00 +x+y", "01 +x+y", "10 +x+y", "11 +x+y")
-LAYERS = folded(
-    "layers", "loose", "000 +x+y+z", "001 +x+y+z", "010 +x+y+z", "011 +x+y+z",
-    "100 +x+y+z", "101 +x+y+z", "110 +x+y+z", "111 +x+y+z",
-)
-FLAT = (hilbert(), there_and_back(), square(), ROWS)
-DEEP = (winding(), cube(), LAYERS)
-CURVES = FLAT + DEEP
-NAMES = ("a", "aa", "ab", "b", "ba", "zzzzzzzzzzzz", "y", "c", "yard", "yar", "x", "k", "m")
-
-
-class Plain:
-    """What a yard tells, found by looking at all places of all things."""
-
-    def __init__(self, dims, level):
-        self.floor = places_of(floor_of(dims, level))
-        self.boxes = {}
-
-    def on_floor(self, box):
-        return {box[0], box[1]} <= self.floor
-
-    def put(self, name, box):
-        if name in self.boxes:
-            return Twice
-        if not self.on_floor(box):
-            return OffFloor
-        self.boxes[name] = box
-
-    def move(self, name, box):
-        if name not in self.boxes:
-            return NoThing
-        if not self.on_floor(box):
-            return OffFloor
-        self.boxes[name] = box
-
-    def take(self, name):
-        if name not in self.boxes:
-            return NoThing
-        self.boxes.pop(name)
-
-    def where(self, name):
-        return self.boxes.get(name, NoThing)
-
-    def names(self):
-        return sorted(self.boxes)
-
-    def inside(self, box):
-        if not self.on_floor(box):
-            return OffFloor
-        return sorted(name for name, other in self.boxes.items() if places_of(other) <= places_of(box))
-
-    def meeting(self, box):
-        if not self.on_floor(box):
-            return OffFloor
-        return sorted(name for name, other in self.boxes.items() if places_of(other) & places_of(box))
-
-    def nearest(self, place, many):
-        if place not in self.floor:
-            return OffFloor
-        gaps = []
-        for name, box in self.boxes.items():
-            apart = [max(abs(along - across) for along, across in zip(place, other)) for other in places_of(box)]
-            gaps.append((min(apart), name))
-        return sorted(gaps)[:many]
-
-    def sharing(self):
-        pairs = itertools.combinations(sorted(self.boxes), 2)
-        return [pair for pair in pairs if places_of(self.boxes[pair[0]]) & places_of(self.boxes[pair[1]])]
-
+from tests.yards import CURVES, DEEP, FLAT, NAMES, ROWS, Plain, laid, some_boxes
 
 def answer_of(yard, deed):
     """What a yard answers to a deed, or the class of its refusal."""
@@ -90,21 +20,6 @@ def answer_of(yard, deed):
     except (Twice, NoThing, OffFloor) as error:
         return type(error)
     return None if method in ("put", "move", "take") else answer
-
-
-def some_boxes(dims, level, count, salt, reach):
-    """Scattered boxes; some reach beyond the floor."""
-    side = 2 ** level
-    chosen = iter(scattered(count * dims * 2, 2 ** 20, salt))
-    found = []
-    for step in range(count):
-        lines = []
-        for axis in range(dims):
-            least = next(chosen) % side
-            most = least + next(chosen) % reach
-            lines.append((least, most if step % 2 else min(most, side - 1)))
-        found.append(box_along(lines))
-    return found
 
 
 def some_deeds(dims, level, count, salt, reach):
@@ -142,13 +57,6 @@ class Checked(unittest.TestCase):
         self.assertEqual(yard.names(), names)
         self.assertEqual((yard.names(), [yard.where(name) for name in names], yard.store.listed(), yard.store.shape()),
                          before)
-
-
-def laid(curve, level, size, boxes):
-    yard = Yard(curve, level, size)
-    for name, box in boxes.items():
-        yard.put(name, box)
-    return yard
 
 
 class Deeds(Checked):
